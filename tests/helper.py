@@ -1,10 +1,14 @@
-"""What several test files need: small houses, random ones, and a second, step by step telling of stands."""
+"""What several test files need: small houses, random ones, and a second telling of all that comes of a house, which
+goes step by step, tick by tick, through all stands, and draws nothing from the package but to draw random weavings."""
 
 import random
 
 from meetwall.stands import behind, first_stand, may_go
 
 MODES = ("both", "come", "go")
+WORDS = ("raise", "await", "come", "go", "come", "go", "leave", "begin", "work", "say")
+# With these few hands are left waiting, and many wait for a while.
+FLOWING = ("raise", "raise", "raise", "await", "come", "come", "go", "leave", "begin", "work", "work", "work")
 
 
 def house_of(scripts, firsts=((0, ()),), boxes=3, walls=3):
@@ -36,8 +40,9 @@ def far_house():
 class Chance:
     """Random houses and stands out of one seed."""
 
-    def __init__(self, seed):
+    def __init__(self, seed, words=WORDS):
         self.draw = random.Random(seed)
+        self.words = words
 
     def stronger(self, members):
         """Members that a script made for these fits, too."""
@@ -45,7 +50,7 @@ class Chance:
 
     def deed(self, had, later):
         draw = self.draw
-        word = draw.choice(("raise", "await", "come", "go", "come", "go", "leave", "begin", "work", "say"))
+        word = draw.choice(self.words)
         if word == "raise":
             return ("raise", draw.randrange(2), draw.randrange(1, 3))
         if word == "await":
@@ -173,3 +178,201 @@ def player_at(house, stand):
         for place in range(stand[hand]):
             player.do(hand)
     return player
+
+
+def played_by(house, weaving):
+    """The player behind the weaving, or None where it is none."""
+    player = Player(house)
+    for hand in weaving:
+        if hand not in player.hands or not player.may(hand):
+            return None
+        player.do(hand)
+    return player
+
+
+def going(player):
+    return sorted(hand for hand in player.hands if player.may(hand))
+
+
+def woven(house, pick, weaving=()):
+    """A full weaving that begins with the one told; pick chooses among the hands that may go on, at the nth turn."""
+    player = played_by(house, weaving)
+    hands = list(weaving)
+    while going(player):
+        hands.append(pick(going(player), len(hands)))
+        player.do(hands[-1])
+    return hands
+
+
+def first_one(hands, turn):
+    return hands[0]
+
+
+def last_one(hands, turn):
+    return hands[-1]
+
+
+def by_turns(hands, turn):
+    return hands[turn % len(hands)]
+
+
+def every_hand(house):
+    """All hands that may ever be, each with its script."""
+    scripts = {}
+    waiting = [((number,), calling[0]) for number, calling in enumerate(house[2])]
+    while waiting:
+        hand, number = waiting.pop()
+        scripts[hand] = house[3][number]
+        begins = [deed[1] for deed in scripts[hand] if deed[0] == "begin"]
+        waiting += [(hand + (place,), begun) for place, begun in enumerate(begins)]
+    return scripts
+
+
+def every_deed(house):
+    return [(hand, place) for hand, script in sorted(every_hand(house).items()) for place in range(len(script))]
+
+
+def deeds_of(weaving):
+    return [(hand, weaving[:place].count(hand)) for place, hand in enumerate(weaving)]
+
+
+def reached(house, most=600):
+    """All stands that weavings come to, or None where there are more than so many."""
+    found = {}
+    waiting = [{(number,): 0 for number in range(len(house[2]))}]
+    while waiting:
+        stand = waiting.pop()
+        key = tuple(sorted(stand.items()))
+        if key in found:
+            continue
+        found[key] = stand
+        if len(found) > most:
+            return None
+        for hand in going(player_at(house, stand)):
+            player = player_at(house, stand)
+            player.do(hand)
+            waiting.append(player.stand())
+    return list(found.values())
+
+
+def has_done(stand, deed):
+    return stand.get(deed[0], 0) > deed[1]
+
+
+def small_houses(count, **sizes):
+    """Random houses with few stands, each with its seed and its stands."""
+    seed = 0
+    while count:
+        seed += 1
+        house = Chance(seed, FLOWING if seed % 2 else WORDS).house(**sizes)
+        stands = reached(house)
+        if stands is not None and len(stands) > 3:
+            count -= 1
+            yield house, stands, Chance(seed)
+
+
+def grounds(house, weaving):
+    """For each place what is in the boxes and what is lifted behind it; first of all ahead of the first one."""
+    player = Player(house)
+    rows = [(list(player.boxes), [player.lifted(wall) for wall in range(house[1])])]
+    for hand in weaving:
+        player.do(hand)
+        rows.append((list(player.boxes), [player.lifted(wall) for wall in range(house[1])]))
+    return rows
+
+
+def lets(house, weaving):
+    """For each place of a weaving the place by which its deed may first be done; None where at first or always."""
+    rows = grounds(house, weaving)
+    player = Player(house)
+    told = []
+    for hand in weaving:
+        state = player.hands[hand]
+        deed = state["script"][state["done"]]
+        by = 0
+        if deed[0] == "await":
+            by = [row[0][deed[1]] >= deed[2] for row in rows].index(True)
+        if deed[0] == "go":
+            went = state["walls"][deed[1]][2]
+            by = [row[1][deed[1]] is None or row[1][deed[1]] > went for row in rows].index(True)
+        told.append(by - 1 if by else None)
+        player.do(hand)
+    return told
+
+
+def source(house, deed):
+    """The deed of the hand ahead, or the begin that calls it, or None."""
+    hand, place = deed
+    if place:
+        return (hand, place - 1)
+    if len(hand) == 1:
+        return None
+    script = every_hand(house)[hand[:-1]]
+    return (hand[:-1], [at for at, deed in enumerate(script) if deed[0] == "begin"][hand[-1]])
+
+
+def dued(house, weaving):
+    """The moments of a weaving's deeds by the words of point 14."""
+    by = lets(house, weaving)
+    scripts = every_hand(house)
+    names = deeds_of(weaving)
+    moments = []
+    for place, name in enumerate(names):
+        deed = scripts[name[0]][name[1]]
+        ahead = source(house, name)
+        since = moments[names.index(ahead)] if ahead else 0
+        if deed[0] == "work":
+            since += deed[1]
+        if by[place] is not None:
+            since = max(since, moments[by[place]])
+        moments.append(since)
+    return moments
+
+
+def is_timed_by_words(house, rows):
+    weaving = [row[0] for row in rows]
+    player = played_by(house, weaving)
+    if player is None or going(player) or deeds_of(weaving) != [row[:2] for row in rows]:
+        return False
+    moments = [row[2] for row in rows]
+    return moments == sorted(moments) and moments == dued(house, weaving)
+
+
+def is_chain_by_words(house, rows, deeds):
+    """Of a timed weaving."""
+    names = [row[:2] for row in rows]
+    if not deeds or any(deed not in names for deed in deeds) or source(house, deeds[0]) is not None:
+        return False
+    by = lets(house, [row[0] for row in rows])
+    for one, other in zip(deeds, deeds[1:]):
+        if source(house, other) != one and by[names.index(other)] != names.index(one):
+            return False
+    scripts = every_hand(house)
+    whats = [scripts[hand][place] for hand, place in deeds]
+    return sum(what[1] for what in whats if what[0] == "work") == rows[names.index(deeds[-1])][2]
+
+
+def ticked(house, draw=None, lazy=False):
+    """Rows of a weaving tick by tick, in any order: all that can be done at a tick is, but by the lazy."""
+    player = Player(house)
+    since = {hand: 0 for hand in player.hands}
+    rows = []
+    now = 0
+    while True:
+        able = [hand for hand in player.hands if player.may(hand) and is_over(player, hand, since, now)]
+        if not going(player):
+            return rows
+        if not able or lazy and draw.random() < 0.3:
+            now += 1
+            continue
+        hand = draw.choice(able) if draw else able[0]
+        rows.append((hand, player.hands[hand]["done"], now))
+        player.do(hand)
+        since[hand] = now
+        for other in player.hands:
+            since.setdefault(other, now)
+
+
+def is_over(player, hand, since, now):
+    deed = player.hands[hand]["script"][player.hands[hand]["done"]]
+    return deed[0] != "work" or since[hand] + deed[1] <= now

@@ -128,6 +128,39 @@ class LanguageTest(unittest.TestCase):
             if isinstance(node.func, ast.Attribute):
                 self.assertIn(node.func.attr, METHODS + own, (name, node.lineno))
 
+    def test_no_name_is_a_method_and_a_value(self):
+        methods = [part.name for name, node in self.nodes(ast.ClassDef) for part in node.body
+                   if isinstance(part, ast.FunctionDef)]
+        for name, node in self.nodes(ast.Attribute):
+            if isinstance(node.ctx, ast.Store):
+                self.assertNotIn(node.attr, methods, (name, node.lineno))
+                for kind in (str, int, list, dict, set, bytes, tuple):
+                    self.assertFalse(hasattr(kind, node.attr), (name, node.attr))
+
+    def test_no_two_files_draw_from_one_another(self):
+        drawn = {name: [] for name in self.trees}
+        for name, node in self.nodes(ast.ImportFrom):
+            drawn[name] += [node.module.split(".")[1] + ".py"]
+        order = []
+        while len(order) < len(drawn):
+            free = [name for name in drawn if name not in order and set(drawn[name]) <= set(order)]
+            self.assertTrue(free, order)
+            order += free
+        self.assertEqual(drawn["__init__.py"], [])
+
+    def test_imports_are_used(self):
+        for name, node in self.nodes(ast.ImportFrom):
+            used = [part.id for part in ast.walk(self.trees[name]) if isinstance(part, ast.Name)]
+            for alias in node.names:
+                self.assertIn(alias.name, used, name)
+
+    def test_sets_are_not_kept(self):
+        for name, tree in self.trees.items():
+            inside = [node.args[0] for node in ast.walk(tree) if called_name(node) in ("len", "sorted") and node.args]
+            for node in ast.walk(tree):
+                if called_name(node) in ("set", "frozenset"):
+                    self.assertIn(node, inside, (name, node.lineno))
+
     def test_is_stands_beside_none_and_truths(self):
         for name, node in self.nodes(ast.Compare):
             for sign, right in zip(node.ops, node.comparators, strict=True):
