@@ -1,6 +1,7 @@
 """What several test files need: small houses, random ones, and a second telling of all that comes of a house, which
 goes step by step, tick by tick, through all stands, and draws nothing from the package but to draw random weavings."""
 
+import copy
 import random
 
 from meetwall.stands import behind, first_stand, may_go
@@ -9,6 +10,7 @@ MODES = ("both", "come", "go")
 WORDS = ("raise", "await", "come", "go", "come", "go", "leave", "begin", "work", "say")
 # With these few hands are left waiting, and many wait for a while.
 FLOWING = ("raise", "raise", "raise", "await", "come", "come", "go", "leave", "begin", "work", "work", "work")
+COME, GO = ("say", "come"), ("say", "go")
 
 
 def house_of(scripts, firsts=((0, ()),), boxes=3, walls=3):
@@ -35,6 +37,82 @@ def far_house():
     """Twenty scripts, each of which begins the next one eighty times, with forty firsts."""
     scripts = tuple((("begin", number + 1, ()),) * 80 for number in range(19)) + ((),)
     return (0, 0, ((0, ()),) * 40, scripts)
+
+
+def shared(n, p, less=0):
+    script = ()
+    for q in range(p):
+        script += (COME, ("raise", 0, 1), ("await", 0, n * (q + 1) - less), GO)
+    return house_of([script] * n, [(i, ()) for i in range(n)], boxes=1, walls=0)
+
+
+def own(n, p, skipped=()):
+    """Each raises its own box and awaits all others', but those of the pairs that are skipped."""
+    scripts = []
+    for i in range(n):
+        script = ()
+        for q in range(p):
+            awaited = [j for j in range(n) if j != i and (i, j) not in skipped]
+            script += (COME, ("raise", i, 1)) + tuple(("await", j, q + 1) for j in awaited) + (GO,)
+        scripts.append(script)
+    return house_of(scripts, [(i, ()) for i in range(n)], boxes=n, walls=0)
+
+
+def spread(n, p):
+    rounds = (n - 1).bit_length()
+    scripts = []
+    for i in range(n):
+        script = ()
+        for q in range(p):
+            script += (COME,)
+            for k in range(rounds):
+                script += (("raise", k * n + i, 1), ("await", k * n + (i - 2 ** k) % n, q + 1))
+            script += (GO,)
+        scripts.append(script)
+    return house_of(scripts, [(i, ()) for i in range(n)], boxes=n * rounds, walls=0)
+
+
+def tree(n, p):
+    scripts = []
+    for i in range(n):
+        script = ()
+        for q in range(p):
+            below = tuple(("await", j, q + 1) for j in (2 * i + 1, 2 * i + 2) if j < n)
+            script += (COME,) + below + (("raise", i, 1),) + ((("await", 0, q + 1),) if i else ()) + (GO,)
+        scripts.append(script)
+    return house_of(scripts, [(i, ()) for i in range(n)], boxes=n, walls=0)
+
+
+def lists_in(thing):
+    """All lists and dicts that lie in what is told, the innermost first."""
+    found = []
+    if isinstance(thing, (list, tuple)):
+        found = [inner for part in thing for inner in lists_in(part)]
+    if isinstance(thing, dict):
+        found = [inner for part in thing.values() for inner in lists_in(part)]
+    return found + ([thing] if isinstance(thing, (list, dict)) else [])
+
+
+def spoil(thing):
+    """Changes all lists and dicts that lie in what is told."""
+    for inner in lists_in(thing):
+        if isinstance(inner, dict):
+            inner.clear()
+            inner[(7, 7)] = 7
+        else:
+            inner.append((9,))
+            inner.reverse()
+
+
+def check_own(case, ask):
+    """What ask tells is the asker's own: it is changed, asked for again, and told as before."""
+    told = ask()
+    kept = copy.deepcopy(told)
+    inner = lists_in(told)
+    # None of them is another one, too: a change of one changes no other.
+    case.assertEqual(len({id(thing) for thing in inner}), len(inner))
+    spoil(told)
+    case.assertEqual(ask(), kept)
 
 
 class Chance:

@@ -4,16 +4,19 @@ import copy
 import inspect
 import unittest
 
-from helper import FLOWING, Chance, at, big_house, every_hand, far_house, going, house_of, played_by
+from helper import (COME, FLOWING, GO, Chance, at, big_house, check_own, every_hand, far_house, going, house_of,
+                    played_by)
+from meetwall.counted import are_ever, can, ever, is_counted, is_left, is_row
 from meetwall.errors import NoHouse, TooMany
+from meetwall.heard import heard, heights
 from meetwall.houses import is_house
+from meetwall.kinds import made
 from meetwall.made import are_papers, cost, is_plain, tried
 from meetwall.moments import chain, is_chain, is_timed, moment, timed
 from meetwall.musts import must, shows_free, shows_must, table
 from meetwall.weavings import end, gone_on, is_full, is_knot, played
 
 A, B = (0,), (1,)
-COME, GO = ("say", "come"), ("say", "go")
 HOUSE = house_of([(COME, ("work", 3), ("come", 0), ("go", 0), GO), (COME, ("begin", 2, ()), ("come", 0), ("go", 0), GO),
                   (("work", 2),)], ((0, (at(0),)), (1, (at(0),))))
 NO_HOUSES = [None, False, 7, "house", [], {}, (), list(HOUSE), HOUSE[:3], HOUSE + (0,), far_house(),
@@ -79,8 +82,8 @@ class NoHouseTest(unittest.TestCase):
             for n, p in [(2, 1), (1, 0), (0, 0), (17, 5)]:
                 self.assertRaises(NoHouse, tried, house, n, p)
                 self.assertRaises(NoHouse, are_papers, house, n, p, {})
-            self.assertRaises(NoHouse, is_plain, house)
-            self.assertRaises(NoHouse, cost, house)
+            for asked in (is_plain, cost, heard, heights):
+                self.assertRaises(NoHouse, asked, house)
 
     def test_a_house_with_too_many_deeds_is_refused_as_none_ahead_of_too_many(self):
         house = house_of([(("work", 1),) * 80], ((0, ()),) * 16)
@@ -97,7 +100,9 @@ class InterfaceTest(unittest.TestCase):
                 is_knot: "house weaving waits", must: "house one other", shows_must: "house one other weaving",
                 shows_free: "house one other weaving", table: "house", timed: "house", is_timed: "house rows",
                 moment: "house deed", chain: "house deed", is_chain: "house rows deeds", tried: "house n p",
-                are_papers: "house n p papers", is_plain: "house", cost: "house"}
+                are_papers: "house n p papers", is_plain: "house", cost: "house", made: "kind n p", heard: "house",
+                heights: "house", is_counted: "thing", can: "meeting", ever: "meeting", is_row: "meeting row",
+                is_left: "meeting row", are_ever: "meeting stands"}
         for asked, names in told.items():
             self.assertEqual(" ".join(inspect.signature(asked).parameters), names, asked)
 
@@ -110,16 +115,6 @@ def answers(house, weaving, n, p):
     told += [must(house, one, other) for one in deeds for other in deeds if one != other]
     told += [moment(house, deed) for deed in deeds] + [chain(house, deed) for deed in deeds]
     return told
-
-
-def lists_in(thing):
-    """All lists and dicts that lie in what is told, the innermost first."""
-    found = []
-    if isinstance(thing, (list, tuple)):
-        found = [inner for part in thing for inner in lists_in(part)]
-    if isinstance(thing, dict):
-        found = [inner for part in thing.values() for inner in lists_in(part)]
-    return found + ([thing] if isinstance(thing, (list, dict)) else [])
 
 
 class OwnTest(unittest.TestCase):
@@ -136,20 +131,8 @@ class OwnTest(unittest.TestCase):
     def test_what_is_told_is_the_askers_own(self):
         for house, weaving, n, p in self.cases():
             was = copy.deepcopy((house, weaving))
-            told = answers(house, weaving, n, p)
-            kept = copy.deepcopy(told)
-            inner = lists_in(told)
-            # None of them is another one, too: a change of one changes no other.
-            self.assertEqual(len({id(thing) for thing in inner}), len(inner))
-            for thing in inner:
-                if isinstance(thing, dict):
-                    thing.clear()
-                    thing[(7, 7)] = 7
-                else:
-                    thing.append((9,))
-                    thing.reverse()
+            check_own(self, lambda: answers(house, weaving, n, p))
             self.assertEqual((house, weaving), was)
-            self.assertEqual(answers(house, weaving, n, p), kept)
 
     def test_what_is_handed_in_stays_as_it_was(self):
         papers = tried(HOUSE, 2, 1)[1]

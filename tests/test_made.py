@@ -2,60 +2,13 @@ import itertools
 import random
 import unittest
 
-from helper import (Chance, at, deeds_of, every_deed, every_hand, going, has_done, house_of, played_by,
-                    reached, small_houses, woven)
+from helper import (COME, GO, Chance, at, deeds_of, every_deed, every_hand, going, has_done, house_of, own, played_by,
+                    reached, shared, small_houses, spread, tree, woven)
 from meetwall.errors import NoWall, TooMany
 from meetwall.houses import is_house
 from meetwall.made import are_papers, cost, is_plain, tried
 from meetwall.musts import must
 from meetwall.weavings import end
-
-COME, GO = ("say", "come"), ("say", "go")
-
-
-def shared(n, p, less=0):
-    script = ()
-    for q in range(p):
-        script += (COME, ("raise", 0, 1), ("await", 0, n * (q + 1) - less), GO)
-    return house_of([script], ((0, ()),) * n, boxes=1, walls=0)
-
-
-def own(n, p, skipped=()):
-    """Each raises its own box and awaits all others', but those of the pairs that are skipped."""
-    scripts = []
-    for i in range(n):
-        script = ()
-        for q in range(p):
-            awaited = [j for j in range(n) if j != i and (i, j) not in skipped]
-            script += (COME, ("raise", i, 1)) + tuple(("await", j, q + 1) for j in awaited) + (GO,)
-        scripts.append(script)
-    return house_of(scripts, [(i, ()) for i in range(n)], boxes=n, walls=0)
-
-
-def spread(n, p):
-    rounds = (n - 1).bit_length()
-    scripts = []
-    for i in range(n):
-        script = ()
-        for q in range(p):
-            script += (COME,)
-            for k in range(rounds):
-                script += (("raise", k * n + i, 1), ("await", k * n + (i - 2 ** k) % n, q + 1))
-            script += (GO,)
-        scripts.append(script)
-    return house_of(scripts, [(i, ()) for i in range(n)], boxes=n * rounds, walls=0)
-
-
-def tree(n, p):
-    scripts = []
-    for i in range(n):
-        script = ()
-        for q in range(p):
-            below = tuple(("await", j, q + 1) for j in (2 * i + 1, 2 * i + 2) if j < n)
-            script += (COME,) + below + (("raise", i, 1),) + ((("await", 0, q + 1),) if i else ()) + (GO,)
-        scripts.append(script)
-    return house_of(scripts, [(i, ()) for i in range(n)], boxes=n, walls=0)
-
 
 def at_a_wall(n, p):
     script = (COME, ("come", 0), ("go", 0), GO) * p
