@@ -27,15 +27,12 @@ class Web:
         return self.sheet.plan.what(name)[0] == "await"
 
 
-def first_of(name):
-    return [name[0][0]] if len(name[0]) == 1 and name[1] == 0 else []
-
-
 def heard(house):
     web = Web(house)
     told = {}
     for name in web.names:
-        numbers = first_of(name)
+        # Its own hand, or the first one that began it, whose first deed is ahead of all that it brings.
+        numbers = [name[0][0]]
         for one in web.straight_ahead(name):
             numbers.extend(told[one])
         told[name] = sorted(set(numbers))

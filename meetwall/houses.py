@@ -32,10 +32,14 @@ def is_tuple_within(thing, least, most):
     return isinstance(thing, tuple) and least <= len(thing) <= most
 
 
-def is_word(thing):
-    if not isinstance(thing, str) or not 1 <= len(thing) <= MOST_LETTERS:
+def is_letters(thing):
+    if not isinstance(thing, str) or len(thing) == 0:
         return False
     return all(["a" <= letter <= "z" for letter in thing])
+
+
+def is_word(thing):
+    return is_letters(thing) and len(thing) <= MOST_LETTERS
 
 
 def is_box(thing, house):
@@ -154,6 +158,10 @@ def fits(scripts, calling):
         if deed[0] == "begin" and not fits(scripts, deed[1:]):
             return False
     return True
+
+
+def said_in(deeds):
+    return [deed[1] for deed in deeds if deed[0] == "say"]
 
 
 def is_house(thing):

@@ -62,7 +62,7 @@ def boxes_of(kind, n):
 
 
 def made(kind, n, p):
-    if not isinstance(kind, str) or kind not in KINDS:
+    if kind not in KINDS:
         raise NoWall("there is no such kind of walls")
     if not is_within(n, 1, MOST_MEETERS) or not is_within(p, 0, MOST_PHASES):
         raise NoWall("no wall is made for so many hands and phases")

@@ -1,7 +1,7 @@
 """Made walls: whether hands that say come and go ever pass early or are left waiting, and what their wall costs."""
 
 from meetwall.errors import NoWall, TooMany
-from meetwall.houses import is_within
+from meetwall.houses import is_within, said_in
 from meetwall.musts import Stop, is_must
 from meetwall.plans import is_name, plan_of
 from meetwall.runs import first_run, woven_on
@@ -12,17 +12,13 @@ MOST_PHASES = 4
 MOST_DEEDS_OF_COST = 300
 
 
-def said_by(role):
-    return [deed[1] for deed in role.script if deed[0] == "say"]
-
-
 def is_made(plan, n, p):
     if not is_within(n, 1, MOST_MEETERS) or not is_within(p, 0, MOST_PHASES):
         return False
     wanted = dict([((number,), ["come", "go"] * p) for number in range(n)])
     if not all([hand in plan.roles for hand in wanted]):
         return False
-    return all([said_by(role) == wanted.get(hand, []) for hand, role in plan.roles.items()])
+    return all([said_in(role.script) == wanted.get(hand, []) for hand, role in plan.roles.items()])
 
 
 def made_plan(house, n, p):

@@ -83,6 +83,72 @@ def tree(n, p):
     return house_of(scripts, [(i, ()) for i in range(n)], boxes=n, walls=0)
 
 
+LOOSE = (1, ((("put", 0, 1), ("say", "x")), (("same", 0, 1), ("skip", 0, 2, 1), ("raise", 0, 1))))
+NO_LOOSE = [None, True, 7, "loose", [], {}, (), (1,), LOOSE[:1], LOOSE + (0,), list(LOOSE), (1, list(LOOSE[1])),
+            (1, ()), (7, LOOSE[1]), (-1, LOOSE[1]), (0, LOOSE[1]), (True, LOOSE[1]), (1, ((),) * 5),
+            (1, ((("put", 0, 10),),)), (1, ((("say", "X"),),)), (1, ((("skip", 0, 0, 1),),)),
+            (1, ((("raise", 0, 0),),)), (1, ([],)), (LOOSE[1], 1), (1, ((("put", 0, 1),) * 31,)),
+            (1, ((("await", 0, 1),),)), big_house()]
+
+
+def drawn_loose(draw):
+    """Any loose house of few hands and deeds."""
+    boxes = draw.randrange(1, 3)
+    scripts = []
+    for hand in range(draw.randrange(1, 4)):
+        length = draw.randrange(0, 7)
+        deeds = []
+        for place in range(length):
+            words = ["put", "raise", "same", "say"] + (["skip", "skip"] if place + 1 < length else [])
+            deeds.append(drawn_loose_deed(draw, draw.choice(words), boxes, length - place - 1))
+        scripts.append(tuple(deeds))
+    return (boxes, tuple(scripts))
+
+
+def drawn_loose_deed(draw, word, boxes, behind):
+    box = draw.randrange(boxes)
+    if word == "say":
+        return ("say", draw.choice(("come", "go", "word")))
+    if word == "raise":
+        return ("raise", box, draw.choice((1, 1, 2, 9)))
+    if word == "skip":
+        return ("skip", box, draw.randrange(3), draw.randrange(1, behind + 1))
+    return (word, box, draw.randrange(3))
+
+
+def loose_may(house, stand, hand):
+    rest = house[1][hand][stand[0][hand]:]
+    return bool(rest) and (rest[0][0] != "same" or stand[1][rest[0][1]] == rest[0][2])
+
+
+def loose_behind(house, stand, hand):
+    word, *told = house[1][hand][stand[0][hand]]
+    boxes = {box: number for box, number in enumerate(stand[1])}
+    further = 1
+    if word == "put":
+        boxes[told[0]] = told[1]
+    elif word == "raise":
+        boxes[told[0]] = int(str(boxes[told[0]] + told[1])[-1])
+    elif word == "skip" and boxes[told[0]] == told[1]:
+        further += told[2]
+    places = tuple(place + further * (other == hand) for other, place in enumerate(stand[0]))
+    return places, tuple(boxes.values())
+
+
+def loose_stands(house, most=None):
+    """All that weavings come to, the first one first; at least so many where there are as many."""
+    found = {((0,) * len(house[1]), (0,) * house[0]): True}
+    waiting = list(found)
+    for stand in waiting:
+        for hand in range(len(house[1])):
+            if loose_may(house, stand, hand) and loose_behind(house, stand, hand) not in found:
+                found[loose_behind(house, stand, hand)] = True
+                waiting.append(loose_behind(house, stand, hand))
+        if most and len(found) > most:
+            break
+    return list(found)
+
+
 def lists_in(thing):
     """All lists and dicts that lie in what is told, the innermost first."""
     found = []

@@ -10,7 +10,10 @@ from meetwall.counted import are_ever, can, ever, is_counted, is_left, is_row
 from meetwall.errors import NoHouse, TooMany
 from meetwall.heard import heard, heights
 from meetwall.houses import is_house
+from meetwall.housetexts import read_house, show_house
 from meetwall.kinds import made
+from meetwall.loose import behind_loose, first_loose, is_loose, may_loose
+from meetwall.loosewalls import holds_by, is_early, is_stuck, tried_loose
 from meetwall.made import are_papers, cost, is_plain, tried
 from meetwall.moments import chain, is_chain, is_timed, moment, timed
 from meetwall.musts import must, shows_free, shows_must, table
@@ -82,7 +85,7 @@ class NoHouseTest(unittest.TestCase):
             for n, p in [(2, 1), (1, 0), (0, 0), (17, 5)]:
                 self.assertRaises(NoHouse, tried, house, n, p)
                 self.assertRaises(NoHouse, are_papers, house, n, p, {})
-            for asked in (is_plain, cost, heard, heights):
+            for asked in (is_plain, cost, heard, heights, show_house):
                 self.assertRaises(NoHouse, asked, house)
 
     def test_a_house_with_too_many_deeds_is_refused_as_none_ahead_of_too_many(self):
@@ -102,7 +105,10 @@ class InterfaceTest(unittest.TestCase):
                 moment: "house deed", chain: "house deed", is_chain: "house rows deeds", tried: "house n p",
                 are_papers: "house n p papers", is_plain: "house", cost: "house", made: "kind n p", heard: "house",
                 heights: "house", is_counted: "thing", can: "meeting", ever: "meeting", is_row: "meeting row",
-                is_left: "meeting row", are_ever: "meeting stands"}
+                is_left: "meeting row", are_ever: "meeting stands", is_loose: "thing", first_loose: "house",
+                may_loose: "house stand", behind_loose: "house stand hand", tried_loose: "house p",
+                is_early: "house p weaving", is_stuck: "house weaving", holds_by: "house p stands",
+                show_house: "house", read_house: "text"}
         for asked, names in told.items():
             self.assertEqual(" ".join(inspect.signature(asked).parameters), names, asked)
 

@@ -167,6 +167,25 @@ class LanguageTest(unittest.TestCase):
                 if isinstance(sign, (ast.Is, ast.IsNot)):
                     self.assertTrue(isinstance(right, ast.Constant) and right.value in (None, True, False), name)
 
+    def test_powers_have_a_written_exponent(self):
+        for name, node in self.nodes(ast.BinOp):
+            if isinstance(node.op, ast.Pow):
+                self.assertIsInstance(node.right, ast.Constant, (name, node.lineno))
+
+    def test_f_strings_hold_plain_names(self):
+        for name, node in self.nodes(ast.FormattedValue):
+            self.assertIsInstance(node.value, ast.Name, (name, node.lineno))
+            self.assertIsNone(node.format_spec, (name, node.lineno))
+
+    def test_dicts_of_a_files_top_are_only_read(self):
+        for name, tree in self.trees.items():
+            kept = [part.targets[0].id for part in tree.body
+                    if isinstance(part, ast.Assign) and isinstance(part.value, (ast.Dict, ast.List))]
+            read = [node.value for node in ast.walk(tree) if isinstance(node, (ast.Subscript, ast.Attribute))]
+            for node in ast.walk(tree):
+                if isinstance(node, ast.Name) and node.id in kept and isinstance(node.ctx, ast.Load):
+                    self.assertIn(node, read, (name, node.lineno))
+
     def test_walked_at_once(self):
         for name, tree in self.trees.items():
             walked = [node.iter for node in ast.walk(tree) if isinstance(node, (ast.For, ast.comprehension))]
